@@ -1,0 +1,1 @@
+"""Letterform: forms filled with values, and read back."""
