@@ -1,4 +1,4 @@
-"""Those rules of LANGUAGE.md that a walk over the package's files can see."""
+"""Some rules of LANGUAGE.md, in part: L1, L2, L4 to L8, L10, L12, L14, L15, L17 and L25. The rest is for the reader."""
 
 import ast
 import builtins
