@@ -1,6 +1,7 @@
 """All fillings of small forms, found without the program, and what the tests of reading and judging share."""
 
 import contextlib
+import functools
 import itertools
 import random
 import signal
@@ -63,6 +64,39 @@ def readings_by_text(pieces):
     for values in sorted(all_values(pieces), key=lambda values: place_in_order(pieces, values)):
         found.setdefault(written(pieces, values), []).append(values)
     return found
+
+
+def places_of_readings(pieces, text):
+    """The readings of a text in order, each as `place_in_order` tells it, one by one: for forms of any size."""
+    @functools.cache
+    def can_end(left, place):
+        return place == len(text) if not left else any([can_end(*way[1:]) for way in ways(left, place)])
+
+    def ways(left, place):
+        """What can come next: the marks for it, what is left behind it, and its place."""
+        kind, *piece = left[0]
+        if kind == "say":
+            return [([], left[1:], place + len(piece[0]))] if text.startswith(piece[0], place) else []
+        if kind == "ask":
+            name, signs, least, most = piece
+            return [([1] * n + [0], left[1:], place + n) for n in range(least, min(most, len(text) - place) + 1)
+                    if set(text[place:place + n]) <= set(signs)]
+        name, within, gap, least, most, *come = piece
+        found = [([0], left[1:], place)] if len(come) >= least else []
+        if len(come) < most:
+            ahead = (("say", gap),) if come else ()
+            found.append(([1], ahead + tuple(within) + (left[0] + ("a row",),) + left[1:], place))
+        return found
+
+    def told(left, place, marks):
+        if not left:
+            yield marks
+        for more, behind, there in ways(left, place) if left else []:
+            if can_end(behind, there):
+                yield from told(behind, there, marks + more)
+
+    whole = tuple(piece if piece[0] != "rows" else piece[:2] + (tuple(piece[2]),) + piece[3:] for piece in pieces)
+    return told(whole, 0, []) if can_end(whole, 0) else iter(())
 
 
 def random_pieces(chance, highest):

@@ -2,7 +2,8 @@ import copy
 import itertools
 import unittest
 
-from fillings import at_most, emptied, largest_form, place_in_order, readings_by_text, small_forms, written
+from fillings import (at_most, emptied, largest_form, place_in_order, places_of_readings, readings_by_text,
+                      small_forms, written)
 from letterform.errors import FormError, NoReading, Twofold
 from letterform.filling import fill
 from letterform.pieces import Form
@@ -295,6 +296,15 @@ class Largest(ReadingTest):
         self.assertEqual(len(set(map(tuple, places))), len(found))
         for reading in found:
             self.assertEqual(written(pieces, reading), text)
+
+    def test_none_is_left_out(self):
+        for pieces, longest in self.forms():
+            form = Form(pieces)
+            for length in (0, 1, longest // 3, longest // 2, longest - 2):
+                with self.subTest(pieces=pieces, length=length):
+                    found = readings(form, "a" * length, 1000)
+                    expected = itertools.islice(places_of_readings(pieces, "a" * length), 1000)
+                    self.assertEqual([place_in_order(pieces, reading) for reading in found], list(expected))
 
     def test_the_first_of_very_many(self):
         none = {"x": "", "y": "", "z": ""}
